@@ -1,0 +1,1 @@
+"""Seriesforms: formulas of time series with gaps, decided for all series."""
