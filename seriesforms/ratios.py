@@ -59,52 +59,52 @@ class Ratio:
     def __add__(self, other):
         if not is_number(other):
             return NotImplemented
-        return _sum(self, _as_ratio(other))
+        return _sum(self, as_ratio(other))
 
     def __radd__(self, other):
         if not is_number(other):
             return NotImplemented
-        return _sum(_as_ratio(other), self)
+        return _sum(as_ratio(other), self)
 
     def __sub__(self, other):
         if not is_number(other):
             return NotImplemented
-        return _sum(self, -_as_ratio(other))
+        return _sum(self, -as_ratio(other))
 
     def __rsub__(self, other):
         if not is_number(other):
             return NotImplemented
-        return _sum(_as_ratio(other), -self)
+        return _sum(as_ratio(other), -self)
 
     def __mul__(self, other):
         if not is_number(other):
             return NotImplemented
-        return _product(self, _as_ratio(other))
+        return _product(self, as_ratio(other))
 
     def __rmul__(self, other):
         if not is_number(other):
             return NotImplemented
-        return _product(_as_ratio(other), self)
+        return _product(as_ratio(other), self)
 
     def __floordiv__(self, other):
         if not is_number(other):
             return NotImplemented
-        return _floor(self, _as_ratio(other))
+        return _floor(self, as_ratio(other))
 
     def __rfloordiv__(self, other):
         if not is_number(other):
             return NotImplemented
-        return _floor(_as_ratio(other), self)
+        return _floor(as_ratio(other), self)
 
     def __mod__(self, other):
         if not is_number(other):
             return NotImplemented
-        return _remainder(self, _as_ratio(other))
+        return _remainder(self, as_ratio(other))
 
     def __rmod__(self, other):
         if not is_number(other):
             return NotImplemented
-        return _remainder(_as_ratio(other), self)
+        return _remainder(as_ratio(other), self)
 
     def __pow__(self, other):
         return self.power(other)
@@ -135,7 +135,7 @@ class Ratio:
         """This fraction divided by another number."""
         if not is_number(other):
             raise InvalidNumber(other)
-        return _product(self, _inverse(_as_ratio(other)))
+        return _product(self, _inverse(as_ratio(other)))
 
     def power(self, exponent):
         """This fraction to the power of an integer from -20 to 20."""
@@ -148,7 +148,7 @@ class Ratio:
         return Ratio(_whole_power(base.top, times), _whole_power(base.bottom, times))
 
 
-def _as_ratio(number):
+def as_ratio(number):
     """The Ratio that is equal to this number."""
     if isinstance(number, Ratio):
         return number
