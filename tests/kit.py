@@ -59,6 +59,21 @@ def letters_of(*formulas):
     return [known[name] for name in sorted(known)]
 
 
+def heaviness(*formulas):
+    """The product and the sum of point 10 for formulas that are taken together."""
+    load = 1 + max(formula.lead for formula in formulas)
+    for formula in formulas:
+        load *= formula.load
+    load *= 2 ** len([letter for letter in letters_of(*formulas) if not letter.full])
+    return load, sum(formula.width for formula in formulas)
+
+
+def too_heavy(*formulas):
+    """The limit that formulas taken together go beyond, or None."""
+    load, width = heaviness(*formulas)
+    return 65536 if load > 65536 else 64 if width > 64 else None
+
+
 def fraction(number):
     """A Ratio, or None, as one of Python's own fractions."""
     return None if number is None else Fraction(number.top, number.bottom)
