@@ -43,17 +43,30 @@ def find_change(machine, count):
             break
         stages.append(_next_stage(changes, stages[-1]))
     node, way, last = found
-    behind = last
+    node, behind = _patterns_behind(stages, node)
+    ahead = _patterns_ahead(reached, stages[0][node][0])
+    pattern, letter, changed = stages[0][node][1]
+    one, other = ahead + [pattern] + behind + last, ahead + [changed] + behind + last
+    place = len(ahead) + 1 + len(behind) - _distance(changes, way)
+    return one, other, (len(ahead), letter), place
+
+
+def _patterns_behind(stages, node):
+    """The node of the first stage that led to this one of the last stage, and the patterns in between."""
+    patterns = []
     for stage in stages[:0:-1]:
-        behind = [stage[node][1]] + behind
+        patterns.append(stage[node][1])
         node = stage[node][0]
-    at, choice = stages[0][node][:2]
-    ahead = []
+    return node, patterns[::-1]
+
+
+def _patterns_ahead(reached, at):
+    """The patterns that led to what was reached with this index."""
+    patterns = []
     while reached[at][0] is not None:
-        ahead = [reached[at][1]] + ahead
+        patterns.append(reached[at][1])
         at = reached[at][0]
-    one, other = ahead + [choice[0]] + behind, ahead + [choice[2]] + behind
-    return one, other, (len(ahead), choice[1]), len(one) - len(last) - _distance(changes, way)
+    return patterns[::-1]
 
 
 def _distance(changes, way):

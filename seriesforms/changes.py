@@ -46,8 +46,7 @@ class Changes:
         return found
 
     def ways(self, pair):
-        """The patterns that do different things to a pair of states and its rows; of those that do the same the first
-        one."""
+        """Patterns that do different things to a pair of states and its rows; of those that do the same the first."""
         if pair not in self._ways:
             known = {}
             for pattern in range(self.patterns):

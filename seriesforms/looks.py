@@ -145,7 +145,7 @@ def leak(formula, count):
         whole, short = path.tells(0, place, length), path.tells(0, place, place + count + 1)
         spots = parting_spots(whole, short)
         if spots:
-            return Leak(length, path.data(spots[0]), place, told_at(whole, spots[0]), told_at(short, spots[0]))
+            return Leak(length, path.made_data(spots[0]), place, told_at(whole, spots[0]), told_at(short, spots[0]))
         place += 1
 
 
@@ -159,14 +159,15 @@ def trace(formula, count):
     if most is not None and most <= count:
         return None
     one, other, change, place = find_change(machine, count)
-    length = len(one)
-    one_path, other_path = Path(machine, one), Path(machine, other)
+    one_path, other_path, length = Path(machine, one), Path(machine, other), len(one)
     left, right = one_path.tells(0, place, length), other_path.tells(0, place, length)
     if one == other:
-        data = (one_path.data(None), other_path.data(change))
-        return Trace(length, data[0], data[1], place, told_at(left, None), told_at(right, change))
-    spot = parting_spots(left, right)[0]
-    return Trace(length, one_path.data(spot), other_path.data(spot), place, told_at(left, spot), told_at(right, spot))
+        # There are no other gaps, so a value must differ.
+        one_spot, other_spot = None, change
+    else:
+        one_spot = other_spot = parting_spots(left, right)[0]
+    one_data, other_data = one_path.made_data(one_spot), other_path.made_data(other_spot)
+    return Trace(length, one_data, other_data, place, told_at(left, one_spot), told_at(right, other_spot))
 
 
 def _machine(formula):

@@ -73,33 +73,32 @@ class Parser:
     def _step(self, kind, taken, rest=()):
         self.steps.append((kind, taken, rest))
 
-    def formula(self):
-        """Takes a FORMULA."""
-        self._both()
-        while self._takes("|"):
-            self._both()
-            self._step("either", 2)
+    # Several levels of the grammar stand in one method each, so that fewer calls stand within one another.
 
-    def _both(self):
-        self._shift()
-        while self._takes("&"):
+    def formula(self):
+        """Takes a FORMULA, with each BOTH in it."""
+        first = True
+        while first or self._takes("|"):
             self._shift()
-            self._step("both", 2)
+            while self._takes("&"):
+                self._shift()
+                self._step("both", 2)
+            if not first:
+                self._step("either", 2)
+            first = False
 
     def _shift(self):
-        self._sum()
-        while self.piece() in SHIFTS:
-            kind = SHIFTS[self.piece()]
-            self._at += 2
-            self._step(kind, 1, (self._count(),))
-
-    def _sum(self):
+        """Takes a SHIFT, with the SUM in it."""
         self._term()
         while self.piece() in SUMS:
             kind = SUMS[self.piece()]
             self._at += 1
             self._term()
             self._step(kind, 2)
+        while self.piece() in SHIFTS:
+            kind = SHIFTS[self.piece()]
+            self._at += 2
+            self._step(kind, 1, (self._count(),))
 
     def _term(self):
         """Takes a TERM; what multiplies it stands ahead of it and is made behind it."""

@@ -44,7 +44,7 @@ class Path:
             read -= 1
             terms = put_in((terms[0], inner), self._maps[read].row)
 
-    def data(self, spot):
+    def made_data(self, spot):
         """The data with these patterns, all of whose entries are 0, but for a 1 at the spot.
 
         A spot is a pair of a place and the index of a letter, or None if there is no 1.

@@ -43,7 +43,7 @@ def gap(formula):
     place = max(0, length - 1 - formula.lead)
     while path.tells(0, place, length) is not None:
         place += 1
-    return length, path.data(None), place
+    return length, path.made_data(None), place
 
 
 def alike_places(formula, other):
@@ -58,8 +58,10 @@ def _check_alone(formula):
 
 
 def _states_without_gaps(machine):
-    """The states in which the machine is, place by place, if there are no gaps; and the index of the first one that
-    comes again behind the last one."""
+    """The states of the machine, place by place, if there are no gaps.
+
+    They end ahead of the first one that comes again; the index of the state that is then repeated is told, too.
+    """
     indexes, states = {}, []
     state = machine.start()
     while state not in indexes:

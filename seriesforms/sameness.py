@@ -89,5 +89,5 @@ def _parting(formula, other, within_only):
         left, right = path.tells(0, place, length), path.tells(1, place, length)
         spots = parting_spots(left, right)
         if spots and not (within_only and left is None):
-            return Parting(length, path.data(spots[0]), place, told_at(left, spots[0]), told_at(right, spots[0]))
+            return Parting(length, path.made_data(spots[0]), place, told_at(left, spots[0]), told_at(right, spots[0]))
         place += 1

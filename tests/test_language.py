@@ -141,7 +141,7 @@ class LanguageTest(unittest.TestCase):
                         self.assertEqual(node.decorator_list, [])
 
     def test_builtins(self):
-        known = set(dir(builtins))
+        known = set(dir(builtins)) - {"_"}
         for path in files():
             with self.subTest(file=path.name):
                 root = tree(path)
@@ -162,6 +162,148 @@ class LanguageTest(unittest.TestCase):
                 for node in ast.walk(tree(path)):
                     if isinstance(node, ast.Constant) and isinstance(node.value, str):
                         self.assertNotIn("%", node.value)
+
+
+BUILTIN_METHODS = {name for kind in (str, int, list, dict, set, bytes, tuple) for name in dir(kind) if name[0] != "_"}
+BARRED_ATTRIBUTES = set(
+    "items keys values pop update append clear extend insert remove reverse setdefault sort args encode decode hex fromhex"
+    " format format_map mro".split()
+)
+TAKING_LISTS = {"any", "all", "min", "max", "sum", "sorted"}
+
+
+class Members:
+    """The names of the methods, properties and attributes of all classes of the package."""
+
+    def __init__(self):
+        self.plain, self.static, self.properties, self.setters, self.attributes = {}, {}, {}, {}, {}
+        for path in files():
+            for node in ast.walk(tree(path)):
+                if isinstance(node, ast.ClassDef):
+                    for item in node.body:
+                        if isinstance(item, ast.FunctionDef):
+                            self._add(node.name, item)
+
+    def _add(self, owner, method):
+        marks = [ast.unparse(mark) for mark in method.decorator_list]
+        kinds = {"property": self.properties, "classmethod": self.static, "staticmethod": self.static}
+        table = kinds.get(marks[0], self.setters) if marks else self.plain
+        table.setdefault(method.name, set()).add(owner)
+        for node in ast.walk(method):
+            if isinstance(node, ast.Attribute) and isinstance(node.ctx, ast.Store):
+                self.attributes.setdefault(node.attr, set()).add(owner)
+
+
+class MembersTest(unittest.TestCase):
+    def setUp(self):
+        self.members = Members()
+
+    def test_properties(self):
+        members = self.members
+        others = set(members.plain) | set(members.static) | BUILTIN_METHODS
+        self.assertEqual(set(members.properties) & others, set())
+        for name in set(members.properties) & set(members.attributes):
+            with self.subTest(name=name):
+                self.assertEqual(members.properties[name], members.setters.get(name))
+
+    def test_static_and_class_methods(self):
+        members = self.members
+        others = set(members.plain) | set(members.properties) | set(members.attributes) | BUILTIN_METHODS
+        self.assertEqual(set(members.static) & others, set())
+
+    def test_methods_and_attributes(self):
+        members = self.members
+        self.assertEqual(set(members.plain) & set(members.attributes), set())
+        self.assertEqual({name for name in members.attributes if name in BARRED_ATTRIBUTES or name[:2] == "__"}, set())
+
+    def test_attributes_that_are_read_are_set(self):
+        members = self.members
+        known = set(members.plain) | set(members.static) | set(members.properties) | set(members.attributes) | BUILTIN_METHODS
+        for path in files():
+            for node in ast.walk(tree(path)):
+                if isinstance(node, ast.Attribute) and not node.attr.startswith("__") and node.attr != "setter":
+                    self.assertIn(node.attr, known)
+
+
+class NamesTest(unittest.TestCase):
+    def test_one_binding(self):
+        """No local name is that of a class or an import of its file; module-level names are bound once."""
+        for path in files():
+            with self.subTest(file=path.name):
+                root = tree(path)
+                tops = []
+                for node in root.body:
+                    if isinstance(node, ast.ImportFrom):
+                        tops += [alias.asname or alias.name for alias in node.names]
+                    elif isinstance(node, (ast.ClassDef, ast.FunctionDef)):
+                        tops.append(node.name)
+                    elif isinstance(node, ast.Assign):
+                        tops += [target.id for target in node.targets]
+                self.assertEqual(len(tops), len(set(tops)))
+                imports = {alias.name for node in root.body if isinstance(node, ast.ImportFrom) for alias in node.names}
+                classes = {node.name for node in root.body if isinstance(node, ast.ClassDef)}
+                local = set()
+                for node in ast.walk(root):
+                    if isinstance(node, ast.Name) and isinstance(node.ctx, ast.Store):
+                        local.add(node.id)
+                    elif isinstance(node, ast.arg):
+                        local.add(node.arg)
+                self.assertEqual(local & (imports | classes), set())
+
+    def test_no_circles_of_imports(self):
+        needs = {}
+        for path in files():
+            modules = [node.module for node in ast.walk(tree(path)) if isinstance(node, ast.ImportFrom)]
+            needs[f"seriesforms.{path.stem}"] = {module for module in modules if module.startswith("seriesforms.")}
+        while needs:
+            free = [name for name, wanted in needs.items() if not wanted & set(needs)]
+            self.assertNotEqual(free, [])
+            for name in free:
+                del needs[name]
+
+    def test_imported_names_are_used_and_defined_there(self):
+        for path in files():
+            root = tree(path)
+            read = {node.id for node in ast.walk(root) if isinstance(node, ast.Name)}
+            for node in ast.walk(root):
+                if isinstance(node, ast.ImportFrom) and node.module.startswith("seriesforms."):
+                    with self.subTest(file=path.name, module=node.module):
+                        names = {alias.name for alias in node.names}
+                        self.assertLessEqual(names, read)
+                        source = tree(PACKAGE / f"{node.module.partition('.')[2]}.py")
+                        defined = {item.name for item in source.body if isinstance(item, (ast.ClassDef, ast.FunctionDef))}
+                        for item in source.body:
+                            if isinstance(item, ast.Assign):
+                                defined |= {target.id for target in item.targets}
+                        self.assertLessEqual(names, defined)
+
+
+class ValuesTest(unittest.TestCase):
+    def test_generators_and_powers(self):
+        for path in files():
+            with self.subTest(file=path.name):
+                for node in ast.walk(tree(path)):
+                    if isinstance(node, ast.Call) and isinstance(node.func, ast.Name) and node.func.id in TAKING_LISTS:
+                        self.assertEqual([arg for arg in node.args if isinstance(arg, ast.GeneratorExp)], [])
+                    if isinstance(node, ast.BinOp) and isinstance(node.op, ast.Pow):
+                        self.assertIsInstance(node.right, ast.Constant)
+                    self.assertNotIsInstance(node, (ast.Set, ast.SetComp, ast.Yield, ast.Lambda, ast.NamedExpr))
+
+    def test_default_values(self):
+        for path in files():
+            with self.subTest(file=path.name):
+                for node in functions(tree(path)):
+                    for default in node.args.defaults:
+                        ast.literal_eval(default)
+
+    def test_catching(self):
+        """Only errors of the package are caught."""
+        own = {node.name for node in ast.walk(tree(PACKAGE / "errors.py")) if isinstance(node, ast.ClassDef)}
+        for path in files():
+            for node in ast.walk(tree(path)):
+                if isinstance(node, ast.ExceptHandler):
+                    caught = {name.id for name in ast.walk(node.type) if isinstance(name, ast.Name)}
+                    self.assertLessEqual(caught, own)
 
 
 if __name__ == "__main__":

@@ -370,6 +370,18 @@ class ResultsTest(LooksKit):
                     self.assertIs(one() != two(), at != other_at)
         self.assertEqual(leak(X << 2, 0), leak(X << 2, 1))
 
+    def test_each_part_counts(self):
+        """Objects that differ in one part only, which are made here as the program makes them."""
+        data = [{"x": Series((1,))}, {"x": Series((2,))}]
+        for kind, parts in [(Leak, (3, data[0], 1, Ratio(1), None)), (Trace, (3, data[0], data[0], 1, Ratio(1), None))]:
+            self.assertEqual(kind(*parts), kind(*parts))
+            for at, part in enumerate(parts):
+                other = data[1] if part == data[0] else Ratio(7) if part is None or part == Ratio(1) and at > 2 else 2
+                changed = parts[:at] + (other,) + parts[at + 1:]
+                with self.subTest(kind=kind.__name__, at=at):
+                    self.assertIs(kind(*parts) == kind(*changed), False)
+                    self.assertIs(kind(*changed) != kind(*parts), True)
+
     def test_equal_to_nothing_else(self):
         for found in (leak(X << 1, 0), trace(X >> 1, 0)):
             for other in [*NO_FORMULAS, X, vars(found)]:

@@ -412,6 +412,15 @@ class ResultsTest(Kit):
         self.assertEqual(parting(X, X.filled()), parting(X, X | (X >> 1)))
         self.assertEqual(parting(X, 2 * X), breach(X, 2 * X))
 
+    def test_each_part_counts(self):
+        """Partings that differ in one part only, which are made here as the program makes them."""
+        parts = (3, {"x": Series((1,))}, 1, Ratio(1), None)
+        others = (4, {"x": Series((2,))}, 2, None, Ratio(1))
+        self.assertEqual(Parting(*parts), Parting(*parts))
+        for at, other in enumerate(others):
+            with self.subTest(at=at):
+                self.assertIs(Parting(*parts) == Parting(*parts[:at], other, *parts[at + 1:]), False)
+
     def test_equal_to_nothing_else(self):
         found = parting(X, 2 * X)
         for other in [*NO_FORMULAS, X, row(found), vars(found)]:
