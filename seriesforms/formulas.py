@@ -106,41 +106,41 @@ class Formula:
         return self._width
 
     def __add__(self, other):
-        return _made("sum", (self, _as_formula(other)))
+        return _made_by_step("sum", (self, _as_formula(other)))
 
     def __radd__(self, other):
-        return _made("sum", (_as_formula(other), self))
+        return _made_by_step("sum", (_as_formula(other), self))
 
     def __sub__(self, other):
-        return _made("difference", (self, _as_formula(other)))
+        return _made_by_step("difference", (self, _as_formula(other)))
 
     def __rsub__(self, other):
-        return _made("difference", (_as_formula(other), self))
+        return _made_by_step("difference", (_as_formula(other), self))
 
     def __mul__(self, other):
-        return _scaled(other, self)
+        return _scaled_formula(other, self)
 
     def __rmul__(self, other):
-        return _scaled(other, self)
+        return _scaled_formula(other, self)
 
     def __neg__(self):
-        return _scaled(-1, self)
+        return _scaled_formula(-1, self)
 
     def __rshift__(self, other):
         _check_count(other, 1, MOST_SHIFT)
-        return _made("later", (self,), (other,))
+        return _made_by_step("later", (self,), (other,))
 
     def __lshift__(self, other):
         _check_count(other, 1, MOST_SHIFT)
-        return _made("sooner", (self,), (other,))
+        return _made_by_step("sooner", (self,), (other,))
 
     def __or__(self, other):
         check_formula(other)
-        return _made("either", (self, other))
+        return _made_by_step("either", (self, other))
 
     def __and__(self, other):
         check_formula(other)
-        return _made("both", (self, other))
+        return _made_by_step("both", (self, other))
 
     def __eq__(self, other):
         if not isinstance(other, Formula) or self._text != str(other):
@@ -157,63 +157,63 @@ class Formula:
         """The sum since the beginning, or since the last place that is a multiple of `every`."""
         if not is_whole(every) or every != 0:
             _check_count(every, 2, MOST_SEASON)
-        return _made("total", (self,), (every,))
+        return _made_by_step("total", (self,), (every,))
 
     def moving(self, wide, least=1):
         """The sum over the last places, if enough entries are there."""
         _check_count(wide, 2, MOST_WINDOW)
         _check_count(least, 1, wide)
-        return _made("moving", (self,), (wide, least))
+        return _made_by_step("moving", (self,), (wide, least))
 
     def average(self, wide, least=1):
         """The average over the last places, if enough entries are there."""
         _check_count(wide, 2, MOST_WINDOW)
         _check_count(least, 1, wide)
-        return _made("average", (self,), (wide, least))
+        return _made_by_step("average", (self,), (wide, least))
 
     def smooth(self, weight):
         """The smoothed series, in which a new entry counts with this weight."""
         if not is_number(weight):
             raise InvalidNumber(weight)
-        return _made("smooth", (self,), (as_ratio(weight),))
+        return _made_by_step("smooth", (self,), (as_ratio(weight),))
 
     def filled(self):
         """The last entry that is there."""
-        return _made("filled", (self,))
+        return _made_by_step("filled", (self,))
 
     def since(self, other):
         """The sum since the last place at which the other formula has an entry."""
         check_formula(other)
-        return _made("since", (self, other))
+        return _made_by_step("since", (self, other))
 
     def season(self, modulus, remainder):
         """The entries at the places that leave this remainder."""
         _check_count(modulus, 2, MOST_SEASON)
         _check_count(remainder, 0, modulus - 1)
-        return _made("season", (self,), (modulus, remainder))
+        return _made_by_step("season", (self,), (modulus, remainder))
 
     def head(self, count):
         """The entries at the first places."""
         _check_count(count, 1, MOST_SHIFT)
-        return _made("head", (self,), (count,))
+        return _made_by_step("head", (self,), (count,))
 
     def rest(self, count):
         """The entries behind the first places."""
         _check_count(count, 1, MOST_SHIFT)
-        return _made("rest", (self,), (count,))
+        return _made_by_step("rest", (self,), (count,))
 
     def gaps(self):
         """1 where there is a gap, otherwise 0."""
-        return _made("gaps", (self,))
+        return _made_by_step("gaps", (self,))
 
     def tally(self, wide):
         """The number of entries that are there at the last places."""
         _check_count(wide, 2, MOST_WINDOW)
-        return _made("tally", (self,), (wide,))
+        return _made_by_step("tally", (self,), (wide,))
 
     def age(self):
         """The number of places since the last entry that is there."""
-        return _made("age", (self,))
+        return _made_by_step("age", (self,))
 
 
 def check_formula(value):
@@ -235,13 +235,13 @@ def _as_formula(value):
     return value
 
 
-def _scaled(number, formula):
+def _scaled_formula(number, formula):
     if not is_number(number):
         raise InvalidNumber(number)
-    return _made("scaled", (formula,), (as_ratio(number),))
+    return _made_by_step("scaled", (formula,), (as_ratio(number),))
 
 
-def _made(kind, parts, numbers=()):
+def _made_by_step(kind, parts, numbers=()):
     """The formula that is made by this step, unless it is refused."""
     clash = least_clash(parts)
     if clash is not None:

@@ -59,22 +59,22 @@ class Ratio:
     def __add__(self, other):
         if not is_number(other):
             return NotImplemented
-        return _sum(self, as_ratio(other))
+        return _ratio_sum(self, as_ratio(other))
 
     def __radd__(self, other):
         if not is_number(other):
             return NotImplemented
-        return _sum(as_ratio(other), self)
+        return _ratio_sum(as_ratio(other), self)
 
     def __sub__(self, other):
         if not is_number(other):
             return NotImplemented
-        return _sum(self, -as_ratio(other))
+        return _ratio_sum(self, -as_ratio(other))
 
     def __rsub__(self, other):
         if not is_number(other):
             return NotImplemented
-        return _sum(as_ratio(other), -self)
+        return _ratio_sum(as_ratio(other), -self)
 
     def __mul__(self, other):
         if not is_number(other):
@@ -155,7 +155,7 @@ def as_ratio(number):
     return Ratio(number)
 
 
-def _sum(left, right):
+def _ratio_sum(left, right):
     return Ratio(left.top * right.bottom + right.top * left.bottom, left.bottom * right.bottom)
 
 
@@ -176,7 +176,7 @@ def _floor(left, right):
 
 def _remainder(left, right):
     """What the multiple of the right one by the rounded quotient leaves of the left one."""
-    return _sum(left, -_product(right, _floor(left, right)))
+    return _ratio_sum(left, -_product(right, _floor(left, right)))
 
 
 def _whole_power(base, times):

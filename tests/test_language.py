@@ -306,5 +306,109 @@ class ValuesTest(unittest.TestCase):
                     self.assertLessEqual(caught, own)
 
 
+# Double-underscore methods that may alter something.
+ALTERING = {"__init__", "__call__", "__enter__", "__exit__", "__setitem__", "__iter__"}
+ALTERING_CALLS = set("append clear extend insert pop remove reverse setdefault update sort add discard".split())
+
+
+class Calls:
+    """Which functions and methods are called by which, by their names alone, over the whole package."""
+
+    def __init__(self):
+        self.named, self.classes = {}, {}
+        self.quiet = []
+        for path in files():
+            for node in tree(path).body:
+                if isinstance(node, ast.FunctionDef):
+                    self.named.setdefault(node.name, []).append(node)
+                elif isinstance(node, ast.ClassDef):
+                    self.classes[node.name] = node
+                    for item in node.body:
+                        if isinstance(item, ast.FunctionDef):
+                            self._add(item)
+
+    def _add(self, method):
+        marks = {ast.unparse(mark) for mark in method.decorator_list}
+        if "property" in marks or method.name.startswith("__") and method.name not in ALTERING:
+            self.quiet.append(method)
+        elif not any(mark.endswith(".setter") for mark in marks):
+            self.named.setdefault(method.name, []).append(method)
+
+    def called(self, function):
+        """The names of what a function calls; that of a class stands for its way of being made."""
+        names = set()
+        for node in ast.walk(function):
+            if isinstance(node, ast.Call):
+                names.add(node.func.id if isinstance(node.func, ast.Name) else node.func.attr)
+        return names
+
+    def reached(self):
+        """All names that methods which must alter nothing call, also by way of others."""
+        found, waiting = set(), [name for method in self.quiet for name in self.called(method)]
+        while waiting:
+            name = waiting.pop()
+            if name not in found:
+                found.add(name)
+                functions_there = self.named.get(name, [])
+                if name in self.classes:
+                    functions_there = [
+                        item for item in self.classes[name].body if getattr(item, "name", "") == "__init__"
+                    ]
+                waiting += [inner for function in functions_there for inner in self.called(function)]
+        return found
+
+
+def made_here(function):
+    """The local names that are assigned nothing but new lists and dicts."""
+    made, other = set(), {argument.arg for argument in function.args.args}
+    for node in ast.walk(function):
+        if isinstance(node, ast.Assign):
+            for target in node.targets:
+                if isinstance(target, ast.Name):
+                    new = isinstance(node.value, (ast.List, ast.Dict, ast.ListComp))
+                    (made if new else other).add(target.id)
+    return made - other
+
+
+def alterations(function):
+    """The rows in which a function alters what it has not made itself, or calls what it is handed."""
+    own, rows = made_here(function), []
+    handed = {argument.arg for argument in function.args.args} - {"cls"}
+
+    def foreign(node):
+        return not (isinstance(node, ast.Name) and node.id in own)
+
+    for node in ast.walk(function):
+        if isinstance(node, (ast.Attribute, ast.Subscript)) and isinstance(node.ctx, (ast.Store, ast.Del)):
+            if foreign(node.value):
+                rows.append(node.lineno)
+        elif isinstance(node, ast.Call):
+            if isinstance(node.func, ast.Attribute) and node.func.attr in ALTERING_CALLS and foreign(node.func.value):
+                rows.append(node.lineno)
+            if isinstance(node.func, ast.Name) and node.func.id in handed:
+                rows.append(node.lineno)
+        elif isinstance(node, (ast.AugAssign, ast.Global, ast.Nonlocal)):
+            rows.append(node.lineno)
+    return rows
+
+
+class QuietTest(unittest.TestCase):
+    """Operators, properties, `__eq__`, `__str__` and their kin alter nothing, whatever goes by the names they call."""
+
+    def test_what_they_call_has_a_name_of_its_own(self):
+        calls = Calls()
+        for name in sorted(calls.reached()):
+            with self.subTest(name=name):
+                self.assertLessEqual(len(calls.named.get(name, [])), 1)
+
+    def test_they_alter_nothing(self):
+        calls = Calls()
+        reached = [function for name in calls.reached() for function in calls.named.get(name, [])]
+        self.assertGreater(len(reached), 10)
+        for function in calls.quiet + reached:
+            with self.subTest(name=function.name):
+                self.assertEqual(alterations(function), [])
+
+
 if __name__ == "__main__":
     unittest.main()
