@@ -21,3 +21,12 @@ def merged_letters(formulas):
         for letter in formula.letters:
             known[letter.name] = letter
     return tuple([known[name] for name in sorted(list(known))])
+
+
+def patterns_of(alphabet):
+    """All patterns of one place, ascending."""
+    patterns = [()]
+    for letter in alphabet:
+        choices = (0,) if letter.full else (0, 1)
+        patterns = [pattern + (gap,) for pattern in patterns for gap in choices]
+    return patterns

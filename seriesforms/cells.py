@@ -24,6 +24,9 @@ EVER = 7
 COUNT = 8
 SEASON = 9
 
+# Kinds of formulas that are there where all of their parts are there.
+ALL_THERE = ("sum", "difference", "scaled", "both", "total", "smooth")
+
 # The numbers of ones in the integers below 64.
 ONES = (
     0, 1, 1, 2, 1, 2, 2, 3, 1, 2, 2, 3, 2, 3, 3, 4, 1, 2, 2, 3, 2, 3, 3, 4, 2, 3, 3, 4, 3, 4, 4, 5,
@@ -62,7 +65,7 @@ class Cells:
             return cell
         if formula.full:
             return self._from(lead, lead)
-        return self._put(LINE, lead, self._line(cell, wait), wait - 1)
+        return self._later(cell, lead, wait)
 
     def counted(self, formula, wide):
         """The index in `extras` of the number of entries at the last places."""
@@ -119,12 +122,10 @@ class Cells:
             return self._put(LETTER, 0, self._indexes[formula.name])
         if kind in ("later", "sooner", "head", "rest"):
             return self._by_place(formula)
+        if kind in ALL_THERE:
+            return self._all_there(self._atoms(formula), lead)
         parts = [self.aligned(part, lead) for part in formula.parts]
         part = parts[0]
-        if kind in ("scaled", "total", "smooth"):
-            return part
-        if kind in ("sum", "difference", "both"):
-            return part if part == parts[1] else self._put(AND, lead, part, parts[1])
         if kind == "either":
             return part if part == parts[1] else self._put(OR, lead, part, parts[1])
         if kind in ("filled", "age"):
@@ -137,6 +138,31 @@ class Cells:
         wide = numbers[0] - 1
         return self._put(COUNT, lead, part, self._line(part, wide), (1 << wide) - 1, numbers[1])
 
+    def _atoms(self, formula):
+        """Pairs of a lead and a cell: the formula, which is not full, is there where all of these are."""
+        if formula.kind not in ALL_THERE:
+            return [(formula.lead, self.cell(formula))]
+        found = []
+        for part in formula.parts:
+            if not part.full:
+                found.extend(self._atoms(part))
+        return found
+
+    def _all_there(self, atoms, lead):
+        """The cell of whether all of these are there, told with this lead."""
+        # Those with a lesser lead are joined first, so that of all of them together one bit a place is remembered.
+        different = sorted(list({atom: True for atom in atoms}))
+        reached, current = different[0]
+        for atom_lead, cell in different[1:]:
+            if atom_lead > reached:
+                current = self._later(current, atom_lead, atom_lead - reached)
+            reached, current = atom_lead, self._put(AND, atom_lead, current, cell)
+        return current if reached == lead else self._later(current, lead, lead - reached)
+
+    def _later(self, cell, lead, wait):
+        """What the cell has told so many places ago."""
+        return self._put(LINE, lead, self._line(cell, wait), wait - 1)
+
     def _by_place(self, formula):
         """The cell of a step that looks at another place, or does not have all places."""
         kind, lead, count = formula.kind, formula.lead, formula.numbers[0]
@@ -146,7 +172,7 @@ class Cells:
             # Even where nothing is remembered the cell is one of its own: it has less to tell at the end.
             if wait <= 0:
                 return self._put(AFTER, lead, part, 0)
-            return self._put(LINE, lead, self._line(part, wait), wait - 1)
+            return self._later(part, lead, wait)
         bound = lead if kind == "sooner" else lead + count
         self._cap = max(self._cap, bound)
         return self._put(BEFORE if kind == "head" else AFTER, lead, part, bound)

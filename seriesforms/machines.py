@@ -7,7 +7,7 @@ they do.
 
 from math import lcm
 
-from seriesforms.alphabets import merged_letters
+from seriesforms.alphabets import merged_letters, patterns_of
 from seriesforms.cells import Cells
 from seriesforms.rows import Rows
 from seriesforms.terms import nothing, put_in, unknown
@@ -16,11 +16,14 @@ from seriesforms.terms import nothing, put_in, unknown
 class Machine:
     """The machine of some formulas together."""
 
-    def __init__(self, roots, counted=True):
-        """If it is not `counted`, each entry stands for 0, and only the gaps are told."""
-        self.alphabet = merged_letters(roots)
+    def __init__(self, roots, counted=True, alphabet=None):
+        """If it is not `counted`, each entry stands for 0, and only the gaps are told.
+
+        The alphabet has all letters of the roots, ascending by their names; there may be further ones.
+        """
+        self.alphabet = merged_letters(roots) if alphabet is None else alphabet
         names = [letter.name for letter in self.alphabet]
-        self.patterns = _patterns(self.alphabet)
+        self.patterns = patterns_of(self.alphabet)
         self._weights = _weights(self.alphabet)
         self.leads = [root.lead for root in roots]
         self._cells = Cells(names)
@@ -38,7 +41,24 @@ class Machine:
 
     def start(self):
         """The index of the state ahead of the first place."""
-        return self._index(self._cells.start())
+        return self.state_of(self._cells.start())
+
+    def state_of(self, content):
+        """The index of the state that is made of this; it is the same for all machines with the same roots."""
+        if content not in self._state_indexes:
+            self._state_indexes[content] = len(self._states)
+            self._states.append(content)
+            self._moves.append({})
+            self._endings.append(None)
+        return self._state_indexes[content]
+
+    def content(self, state):
+        """What the state with this index is made of."""
+        return self._states[state]
+
+    def row_length(self):
+        """The number of the coordinates of rows."""
+        return self._rows.row_length()
 
     def letters_there(self, pattern):
         """The indexes of the letters that are there in the pattern with this index."""
@@ -54,7 +74,7 @@ class Machine:
         if known is None:
             present = sum([1 << index for index in self.letters_there(pattern)])
             moved, told = self._cells.step(self._states[state], present, -1)
-            known = (self._index(moved), self._map(told, -1))
+            known = (self.state_of(moved), self._map(told, -1))
             self._moves[state][pattern] = known
         return known
 
@@ -77,14 +97,6 @@ class Machine:
         if key not in self._tails:
             self._tails[key] = _told_from(maps)
         return self._tails[key]
-
-    def _index(self, values):
-        if values not in self._state_indexes:
-            self._state_indexes[values] = len(self._states)
-            self._states.append(values)
-            self._moves.append({})
-            self._endings.append(None)
-        return self._state_indexes[values]
 
     def _map(self, told, ended):
         key = (ended, told)
@@ -138,15 +150,6 @@ class Map:
     def with_entries(self, rows):
         """The rows, and for each entry that plays a part a row in which it is 1 and all else 0."""
         return rows + [{entry: 1} for entry in self.used]
-
-
-def _patterns(alphabet):
-    """All patterns of one place, ascending."""
-    patterns = [()]
-    for letter in alphabet:
-        choices = (0,) if letter.full else (0, 1)
-        patterns = [pattern + (gap,) for pattern in patterns for gap in choices]
-    return patterns
 
 
 def _weights(alphabet):

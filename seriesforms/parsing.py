@@ -21,7 +21,7 @@ def parse(text):
     if not isinstance(text, str):
         raise InvalidText(text)
     parser = Parser(text)
-    parser.formula()
+    parser.take_formula()
     if parser.piece() != "":
         parser.refuse()
     return parser.steps
@@ -75,7 +75,7 @@ class Parser:
 
     # Several levels of the grammar stand in one method each, so that fewer calls stand within one another.
 
-    def formula(self):
+    def take_formula(self):
         """Takes a FORMULA, with each BOTH in it."""
         first = True
         while first or self._takes("|"):
@@ -125,7 +125,7 @@ class Parser:
         """Takes a FACTOR that is no NUMBER; `piece` is the next piece."""
         if piece == "(":
             self._take("(")
-            self.formula()
+            self.take_formula()
             self._take(")")
         elif piece == "clock":
             self._take(piece)
@@ -136,7 +136,7 @@ class Parser:
         elif piece in OVER_ONE or piece in ("total", "smooth", "since"):
             self._take(piece)
             self._take("(")
-            self.formula()
+            self.take_formula()
             self._behind_formula(piece)
             self._take(")")
         else:
@@ -146,7 +146,7 @@ class Parser:
         """Takes what stands behind the first formula in the brackets of a step."""
         if kind == "since":
             self._take(",")
-            self.formula()
+            self.take_formula()
             self._step(kind, 2)
         elif kind == "smooth":
             self._take(",")

@@ -2,16 +2,17 @@
 
 from seriesforms.ratios import Ratio
 from seriesforms.series import Series
-from seriesforms.terms import put_in
+from seriesforms.terms import dot, put_in
 
 
 class Path:
     """The way of a machine through the places of data with these patterns."""
 
-    def __init__(self, machine, patterns):
-        """The patterns are given by their indexes."""
+    def __init__(self, machine, patterns, row=None):
+        """The patterns are given by their indexes; `row` is the one in the first state, unless it is {0: 1}."""
         self._machine = machine
         self._choices = patterns
+        self._row = {0: 1} if row is None else row
         self._passed = [machine.start()]
         self._maps = []
         for pattern in patterns:
@@ -22,6 +23,7 @@ class Path:
     def tells(self, root, place, stop):
         """The entry that the root has at this place if the data are cut to the places ahead of `stop`.
 
+        Places are counted from the first one of the patterns, so that those ahead of it are below 0.
         What comes back is None for a gap, otherwise an Entry.
         """
         read = place + self._machine.leads[root]
@@ -40,7 +42,8 @@ class Path:
                     multiples[read, -1 - unknown] = Ratio(many, terms[0])
             inner = {unknown: many for unknown, many in terms[1].items() if unknown >= 0}
             if read == 0 or list(inner) in ([], [0]):
-                return Entry(Ratio(inner.get(0, 0), terms[0]), multiples)
+                # The first coordinate stands for 1, whatever the row is a multiple of.
+                return Entry(Ratio(dot(inner, self._row), terms[0] * self._row[0]), multiples)
             read -= 1
             terms = put_in((terms[0], inner), self._maps[read].row)
 

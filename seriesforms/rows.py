@@ -38,6 +38,10 @@ class Rows:
         self._entries.append((what, cell, rest))
         return len(self._entries) - 1
 
+    def row_length(self):
+        """The number of the coordinates given out, with the number 1."""
+        return self._wide
+
     def _coordinate(self):
         self._wide += 1
         return self._wide - 1
@@ -85,7 +89,7 @@ class Rows:
     def _over_two(self, formula, cell):
         kind, lead, parts = formula.kind, formula.lead, formula.parts
         left = self.aligned(parts[0], lead)
-        if kind == "both":
+        if kind == "both" or kind == "either" and parts[0].full:
             return left
         left_cell = self._cells.aligned(parts[0], lead)
         if kind == "since":

@@ -4,7 +4,7 @@ A *question* goes through the places of a series. It knows states, which are tol
 on which what it tells depends linearly; and it tells whether it fails. It may go on in several states at once. It has
 
 - `patterns`: the number of patterns of one place;
-- `start()`: the state ahead of the first place, in which there is the row {0: 1};
+- `start()`: the state ahead of the first place, in which there is the row {0: 1}, or another one that is given;
 - `step(state, rows, pattern, first, front)`: reads one place with these rows, whose images it gives to `front`; if it
   is the `first` time for this state, also for all entries. It tells whether it fails with one of them.
 - `close(state, rows, front)`: tells whether it fails if the series ends; it may give further rows to `front`.
@@ -37,15 +37,22 @@ class Front:
         """The states with new rows, and these rows, since `forget` was called."""
         return list(self._fresh.items())
 
+    def gathered(self):
+        """All states that have been given, and for each one rows that span all of those given with it."""
+        return [(state, span.basis()) for state, span in self._spans.items()]
+
     def forget(self):
         """Begins anew to gather."""
         self._fresh = {}
 
 
-def first_failing(question):
-    """The row of the indexes of patterns with which the question fails: the shortest, then the least one; or None."""
+def first_failing(question, row=None):
+    """The row of the indexes of patterns with which the question fails: the shortest, then the least one; or None.
+
+    Only rows of one place at least are looked at. `row` is the one in the first state, unless it is {0: 1}.
+    """
     front = Front()
-    front.take(question.start(), {0: 1})
+    front.take(question.start(), {0: 1} if row is None else row)
     found = [(None, None, front.fresh())]
     seen = {}
     at = 0

@@ -15,11 +15,25 @@ class Span:
             pivot = min(row)
             base = self._rows.get(pivot)
             if base is None:
-                kept = _shortened(row)
+                kept = shortened(row)
                 self._rows[pivot] = kept
                 return kept
             row = _without(row, base, pivot)
         return None
+
+    def has(self, row):
+        """Whether the row is such a sum."""
+        while row:
+            pivot = min(row)
+            base = self._rows.get(pivot)
+            if base is None:
+                return False
+            row = _without(row, base, pivot)
+        return True
+
+    def basis(self):
+        """Rows that span all of this, none of which can be left out; each one begins at another coordinate."""
+        return [self._rows[pivot] for pivot in sorted(list(self._rows))]
 
 
 def _without(row, base, pivot):
@@ -37,7 +51,7 @@ def _without(row, base, pivot):
     return result
 
 
-def _shortened(row):
+def shortened(row):
     """The row divided by what all of its numbers have in common."""
     common = 0
     for many in row.values():

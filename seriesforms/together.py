@@ -8,12 +8,17 @@ from seriesforms.limits import MOST_LOAD, MOST_WIDTH
 
 def check_pair(formula, other):
     """Refuses what cannot be asked about both formulas together."""
-    check_formula(formula)
-    check_formula(other)
-    clash = least_clash((formula, other))
+    check_together((formula, other))
+
+
+def check_together(formulas):
+    """Refuses what cannot be asked about all of these together, in their order."""
+    for formula in formulas:
+        check_formula(formula)
+    clash = least_clash(formulas)
     if clash is not None:
         raise Clash(clash)
-    check_heaviness((formula, other))
+    check_heaviness(formulas)
 
 
 def check_heaviness(formulas):
