@@ -21,12 +21,18 @@ class Changes:
         self._machine = machine
         self.patterns = len(machine.patterns)
         self.horizon = machine.leads[0]
+        self._reached = None
         self._choices = {}
         self._ways = {}
         self._checks = {}
 
     def reached(self):
         """How the machine reaches its states: tuples (index of the one before, pattern, state, new rows)."""
+        if self._reached is None:
+            self._reached = self._reach()
+        return self._reached
+
+    def _reach(self):
         front = Front()
         front.take(self._machine.start(), {0: 1})
         found = [(None, None, self._machine.start(), [{0: 1}])]
@@ -34,7 +40,7 @@ class Changes:
         at = 0
         while at < len(found):
             state, rows = found[at][2], found[at][3]
-            for pattern in self.ways((state, state)):
+            for pattern, _ in self.ways((state, state)):
                 front.forget()
                 moved, step = self._machine.move(state, pattern)
                 for source in rows if state in seen else step.with_entries(rows):
@@ -46,13 +52,17 @@ class Changes:
         return found
 
     def ways(self, pair):
-        """Patterns that do different things to a pair of states and its rows; of those that do the same the first."""
+        """Patterns that do different things to a pair of states and its rows, each with the pair that comes then.
+
+        Of those that do the same only the first one is told.
+        """
         if pair not in self._ways:
             known = {}
             for pattern in range(self.patterns):
                 one, one_step = self._machine.move(pair[0], pattern)
                 other, other_step = self._machine.move(pair[1], pattern)
-                known.setdefault((one, one_step.effect, other, other_step.effect), pattern)
+                following = (one, other) if one <= other else (other, one)
+                known.setdefault((one, one_step.effect, other, other_step.effect), (pattern, following))
             self._ways[pair] = list(known.values())
         return self._ways[pair]
 

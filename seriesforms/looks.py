@@ -1,6 +1,7 @@
 """By how many places a formula looks ahead and back."""
 
 from seriesforms.backward import find_change, look_back
+from seriesforms.changes import Changes
 from seriesforms.errors import InvalidCount
 from seriesforms.formulas import check_formula
 from seriesforms.machines import Machine
@@ -124,7 +125,7 @@ def ahead(formula):
 
 def back(formula):
     """The number of places by which the formula looks back, or None if it does so without end."""
-    return look_back(_machine(formula))
+    return look_back(Changes(_machine(formula)))
 
 
 def leak(formula, count):
@@ -155,10 +156,11 @@ def trace(formula, count):
     if not is_whole(count) or count < 0 or count > MOST_BACK:
         raise InvalidCount(count)
     machine = _machine(formula)
-    most = look_back(machine)
+    changes = Changes(machine)
+    most = look_back(changes)
     if most is not None and most <= count:
         return None
-    one, other, change, place = find_change(machine, count)
+    one, other, change, place = find_change(changes, count)
     one_path, other_path, length = Path(machine, one), Path(machine, other), len(one)
     left, right = one_path.tells(0, place, length), other_path.tells(0, place, length)
     if one == other:

@@ -2,15 +2,18 @@
 
 import random
 import unittest
+from unittest import mock
 
 from kit import NO_FORMULAS, NO_INTEGERS, Kit, cut, entries_of, heaviness, letters_of, random_formula, searched_back
-from kit import searched_leak, too_heavy
+from kit import plain_value, searched_leak, too_heavy
 
 from seriesforms import looks
+from seriesforms.changes import Changes
 from seriesforms.errors import InvalidCount, NotAFormula, TooHeavy
 from seriesforms.formulas import Formula
 from seriesforms.looks import Leak, Trace, ahead, back, leak, trace
 from seriesforms.ratios import Ratio
+from seriesforms.reading import read
 from seriesforms.series import Series
 
 X = Formula.letter("x")
@@ -223,6 +226,78 @@ class RandomTest(LooksKit):
                 with self.subTest(formula=str(formula)):
                     self.check_ahead(formula, most)
                     self.check_back(formula, most)
+
+
+# Formulas that go by two seasons, and how far they look back.
+TWO_SEASONS = [
+    ("since(y, season(season(clock, 11, 0), 10, 0))", 109),
+    ("since(x, season(season(clock, 11, 0), 8, 0))", 87),
+    ("since(y, season(season(1, 11, 4), 10, 3))", 109),
+    ("filled(season(season(y, 11, 0), 10, 0))", 109),
+    ("filled(season(season(y, 12, 5), 9, 2))", 35),
+    ("since(y, season(season(clock, 7, 0), 12, 0)) - y", 83),
+    ("since(y, season(clock, 7, 0)) + since(y, season(clock, 6, 0))", 6),
+    ("total(total(y, 12), 11)", 21),
+    ("since(y, since(season(clock, 7, 0), season(clock, 6, 0)))", 0),
+    ("filled(season(season(x, 7, 0), 10, 0))", None),
+    ("total(season(season(y, 7, 0), 10, 0))", None),
+    ("since(x, head(season(clock, 11, 0), 5))", None),
+]
+
+
+class TwoSeasonsTest(LooksKit):
+    def made(self, text):
+        return read(text, (X, Y))
+
+    def test_back(self):
+        for text, many in TWO_SEASONS:
+            with self.subTest(text=text):
+                self.assertEqual(back(self.made(text)), many)
+
+    def test_back_against_changes_of_one_entry(self):
+        """The greatest distance at which a changed entry of a full letter alters something, in a long series."""
+        for text, many in TWO_SEASONS:
+            formula = self.made(text)
+            if formula.letters == (Y,) and many is not None:
+                found = 0
+                plain = entries_of(formula, {"y": Series((0,) * 260)}, 260)
+                for changed in range(0, 140):
+                    row = Series((0,) * changed + (1,) + (0,) * (259 - changed))
+                    other = entries_of(formula, {"y": row}, 260)
+                    places = [place for place in range(260) if plain[place] != other[place]]
+                    found = max([found, *[place - changed for place in places]])
+                with self.subTest(text=text):
+                    self.assertEqual(found, many)
+
+    def test_traces(self):
+        for text, many in TWO_SEASONS:
+            for count in (0, 5, 21, 35, 60):
+                formula = self.made(text)
+                with self.subTest(text=text, count=count):
+                    if many is not None and many <= count:
+                        self.assertIsNone(trace(formula, count))
+                        continue
+                    self.check_trace(formula, count)
+                    found = trace(formula, count)
+                    one, two = [plain_value(formula, data, found.length) for data in (found.one, found.two)]
+                    self.assertNotEqual(one[found.place], two[found.place])
+
+    def test_the_one_of_the_issue(self):
+        formula = self.made("since(y, season(season(clock, 11, 0), 10, 0))")
+        self.assertEqual(back(formula), 109)
+        found = trace(formula, 60)
+        self.assertEqual((found.length, found.place, found.left, found.right), (62, 61, 0, 1))
+        self.assertEqual(found.one, {"y": Series((0,) * 62)})
+        self.assertEqual(found.two, {"y": Series((1,) + (0,) * 61)})
+
+    def test_there_is_not_much_to_do(self):
+        """The work grows with the number of states, of which there are 110, not with its square."""
+        formula = self.made("since(y, season(season(clock, 11, 0), 10, 0))")
+        for action, most in [(lambda: back(formula), 500), (lambda: trace(formula, 60), 600)]:
+            with mock.patch.object(Changes, "step", autospec=True, side_effect=Changes.step) as step:
+                action()
+            self.assertLess(step.call_count, most)
+            self.assertGreater(step.call_count, 100)
 
 
 class LeakTest(LooksKit):
