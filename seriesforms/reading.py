@@ -10,18 +10,19 @@ def read(text, letters):
     """The formula with this text, its names being those of the letters."""
     steps = parse(text)
     known = _letters_by_name(letters)
-    for name in _names_of(steps):
+    for name in names_of(steps):
         if name not in known:
             raise UnknownName(name)
-    return _made(steps, known)
+    return made_of(steps, known)
 
 
 def names(text):
     """The different names in the text, in the order in which they first stand there."""
-    return tuple(_names_of(parse(text)))
+    return tuple(names_of(parse(text)))
 
 
-def _names_of(steps):
+def names_of(steps):
+    """The different names in these steps, in the order in which they first stand there."""
     found = {}
     for kind, _, rest in steps:
         if kind == "letter":
@@ -43,8 +44,9 @@ def _letters_by_name(letters):
     return known
 
 
-def _made(steps, known):
-    """Makes the formula of the steps; those that wait for a step around them are kept in a row."""
+def made_of(steps, known):
+    """The formula of these steps, each name standing for the formula that is known under it."""
+    # Formulas wait in a row for the step around them.
     waiting = []
     for kind, taken, rest in steps:
         if kind == "letter":
