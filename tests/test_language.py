@@ -410,5 +410,75 @@ class QuietTest(unittest.TestCase):
                 self.assertEqual(alterations(function), [])
 
 
+class FormsTest(unittest.TestCase):
+    def test_raise(self):
+        """An error is created on the spot, by the name of a class."""
+        classes = set(Calls().classes) | {"TypeError", "AttributeError"}
+        for path in files():
+            for node in ast.walk(tree(path)):
+                if isinstance(node, ast.Raise):
+                    with self.subTest(file=path.name, row=node.lineno):
+                        self.assertIsInstance(node.exc, ast.Call)
+                        self.assertIn(node.exc.func.id, classes)
+                        if node.cause is not None:
+                            self.assertTrue(isinstance(node.cause, ast.Name) or ast.unparse(node.cause) == "None")
+
+    def test_is(self):
+        for path in files():
+            for node in ast.walk(tree(path)):
+                if isinstance(node, ast.Compare) and any(isinstance(sign, (ast.Is, ast.IsNot)) for sign in node.ops):
+                    with self.subTest(file=path.name, row=node.lineno):
+                        self.assertIn(ast.unparse(node.comparators[-1]), ("None", "True", "False"))
+
+    def test_exit(self):
+        """What `__exit__` may contain: attributes that are assigned attributes, under `kind is None` or not."""
+        found = []
+        for node in ast.walk(Calls().classes["Trial"]):
+            if isinstance(node, ast.FunctionDef) and node.name == "__exit__":
+                found.append([argument.arg for argument in node.args.args])
+                rows = list(node.body)
+                for row in rows:
+                    if isinstance(row, ast.If):
+                        self.assertIn(ast.unparse(row.test), ("kind is None", "kind is not None"))
+                        rows += row.body + row.orelse
+                    else:
+                        self.assertIsInstance(row, ast.Assign)
+                        self.assertIsInstance(row.value, ast.Attribute)
+                        self.assertEqual([type(target) for target in row.targets], [ast.Attribute])
+        self.assertEqual(found, [["self", "kind", "value", "trace"]])
+
+    def test_iterating_over_sheets(self):
+        """A class with `__getitem__` has an `__iter__`, which refuses."""
+        for node in Calls().classes.values():
+            methods = {item.name: item for item in node.body if isinstance(item, ast.FunctionDef)}
+            if "__getitem__" in methods:
+                [row] = methods["__iter__"].body
+                self.assertIsInstance(row, ast.Raise)
+                self.assertEqual(row.exc.func.id, "TypeError")
+
+    def test_stars(self):
+        """Behind a star stand only names and attributes off a name."""
+        for path in files():
+            for node in ast.walk(tree(path)):
+                if isinstance(node, ast.Starred):
+                    inner = node.value.value if isinstance(node.value, ast.Attribute) else node.value
+                    self.assertIsInstance(inner, ast.Name)
+
+    def test_loops_do_not_alter_what_they_go_over(self):
+        for path in files():
+            for node in ast.walk(tree(path)):
+                if isinstance(node, ast.For):
+                    gone = {ast.unparse(part) for part in ast.walk(node.iter) if isinstance(part, (ast.Name, ast.Attribute))}
+                    for inner in [part for row in node.body for part in ast.walk(row)]:
+                        changed = None
+                        if isinstance(inner, ast.Call) and isinstance(inner.func, ast.Attribute):
+                            changed = inner.func.value if inner.func.attr in ALTERING_CALLS else None
+                        elif isinstance(inner, ast.Subscript) and not isinstance(inner.ctx, ast.Load):
+                            changed = inner.value
+                        if changed is not None:
+                            with self.subTest(file=path.name, row=inner.lineno):
+                                self.assertNotIn(ast.unparse(changed), gone)
+
+
 if __name__ == "__main__":
     unittest.main()

@@ -289,6 +289,14 @@ class TwoSeasonsTest(LooksKit):
         self.assertEqual((found.length, found.place, found.left, found.right), (62, 61, 0, 1))
         self.assertEqual(found.one, {"y": Series((0,) * 62)})
         self.assertEqual(found.two, {"y": Series((1,) + (0,) * 61)})
+        told = [plain_value(formula, data, 62)[61] for data in (found.one, found.two)]
+        self.assertEqual(told, [0, 1])
+        # By a plain calculation a changed entry alters all places up to the next multiple of 110, and no further one.
+        for changed in (0, 1, 60, 109, 110, 130):
+            row = Series((0,) * changed + (1,) + (0,) * (229 - changed))
+            altered = [place for place, entry in enumerate(plain_value(formula, {"y": row}, 230)) if entry != 0]
+            self.assertEqual(altered, [place for place in range(changed, 230) if place // 110 == changed // 110])
+            self.assertLessEqual(altered[-1] - changed, 109)
 
     def test_there_is_not_much_to_do(self):
         """The work grows with the number of states, of which there are 110, not with its square."""
